@@ -2,6 +2,7 @@
 package fileset
 
 import (
+	"maps"
 	"slices"
 	"strings"
 
@@ -12,7 +13,7 @@ import (
 // File, whose Blob "" stands for no file: so Old needs no case of its own.
 type Set map[string]api.File
 
-// From makes a set of files, if they may be (P3).
+// From makes a set of files, if they may be (P3). It shares no memory with them.
 func From(files []api.File) (Set, bool) {
 	set := make(Set, len(files))
 	for _, f := range files {
@@ -20,9 +21,19 @@ func From(files []api.File) (Set, bool) {
 		if twice || !fileMayBe(f) {
 			return nil, false
 		}
-		set[f.Path] = f
+		set.put(api.File{Path: strings.Clone(f.Path), Blob: strings.Clone(f.Blob)})
 	}
 	return set, true
+}
+
+// CopyEdits makes edits that share no memory with these, their texts neither: a
+// short text that was cut out of a long one would keep all of that.
+func CopyEdits(edits []api.Edit) []api.Edit {
+	list := make([]api.Edit, len(edits))
+	for i, e := range edits {
+		list[i] = api.Edit{Path: strings.Clone(e.Path), Old: strings.Clone(e.Old), New: strings.Clone(e.New)}
+	}
+	return list
 }
 
 // EditsMayBe tells whether edits may be (P3).
@@ -60,6 +71,11 @@ func (s Set) List() []api.File {
 	}
 	slices.SortFunc(list, func(a, b api.File) int { return strings.Compare(a.Path, b.Path) })
 	return list
+}
+
+// Clone makes a set of the same files, which shares nothing with this one.
+func (s Set) Clone() Set {
+	return maps.Clone(s)
 }
 
 func (s Set) put(f api.File) {

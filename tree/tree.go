@@ -12,7 +12,7 @@ func Apply(files []api.File, edits []api.Edit) ([]api.File, api.Errno) {
 	if !ok || !fileset.EditsMayBe(edits) {
 		return nil, api.ErrChange
 	}
-	if !set.Apply(edits) {
+	if !set.Apply(fileset.CopyEdits(edits)) {
 		return nil, api.ErrNone
 	}
 	return set.List(), api.OK

@@ -7,6 +7,7 @@ import (
 	"slices"
 	"strings"
 	"testing"
+	"unsafe"
 
 	"shunt/api"
 	"shunt/tree"
@@ -238,6 +239,17 @@ func TestSpareRoom(t *testing.T) {
 	f2[0], e2[0] = api.File{}, api.Edit{}
 	if want := files("a", "1", "b", "2"); !slices.Equal(two, want) {
 		t.Errorf("P2: an answer has become %q, want %q", two, want)
+	}
+}
+
+// TestTextsAreNew: texts of an answer share no memory with those handed in.
+func TestTextsAreNew(t *testing.T) {
+	b := []byte("pathblobedit")
+	path, blob, edit := unsafe.String(&b[0], 4), unsafe.String(&b[4], 4), unsafe.String(&b[8], 4)
+	got, _ := tree.Apply([]api.File{{Path: path, Blob: blob}}, []api.Edit{{Path: edit, New: blob}})
+	copy(b, "xxxxxxxxxxxx")
+	if want := files("edit", "blob", "path", "blob"); !slices.Equal(got, want) {
+		t.Errorf("P2: an answer has become %q, want %q", got, want)
 	}
 }
 
