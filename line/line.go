@@ -1,7 +1,10 @@
 // Package line: what waits in order, and what is picked by rank.
 package line
 
-import "slices"
+import (
+	"iter"
+	"slices"
+)
 
 // Line is a line of anything: who came first is the first to go.
 type Line[T any] struct {
@@ -13,12 +16,22 @@ func (l *Line[T]) Add(item T) {
 	l.items = append(l.items, item)
 }
 
+// AddFirst puts an item ahead of all others.
+func (l *Line[T]) AddFirst(item T) {
+	l.items = slices.Insert(l.items, 0, item)
+}
+
 // First tells the first item, if there is one.
 func (l *Line[T]) First() (first T, ok bool) {
 	if len(l.items) == 0 {
 		return first, false
 	}
 	return l.items[0], true
+}
+
+// All goes through the items, from the first on.
+func (l *Line[T]) All() iter.Seq[T] {
+	return slices.Values(l.items)
 }
 
 // Drop takes the first item away, if there is one.

@@ -37,22 +37,64 @@ func TestEmptyLine(t *testing.T) {
 	}
 }
 
+func TestAheadOfAllOthers(t *testing.T) {
+	var l Line[string]
+	l.AddFirst("c") // into an empty line
+	l.AddFirst("b")
+	l.Add("d")
+	l.AddFirst("a")
+	if got, want := slices.Collect(l.All()), []string{"a", "b", "c", "d"}; !slices.Equal(got, want) {
+		t.Errorf("All() = %v, want %v", got, want)
+	}
+	l.Drop()
+	l.AddFirst("e") // into the place of one that went
+	if got, want := slices.Collect(l.All()), []string{"e", "b", "c", "d"}; !slices.Equal(got, want) {
+		t.Errorf("All() = %v, want %v", got, want)
+	}
+}
+
+func TestAllMayBeLeft(t *testing.T) {
+	var l Line[int]
+	for range l.All() {
+		t.Error("an empty line has an item")
+	}
+	for n := range 5 {
+		l.Add(n)
+	}
+	seen := 0
+	for n := range l.All() {
+		if seen++; n == 2 {
+			break
+		}
+	}
+	if seen != 3 {
+		t.Errorf("%d items were gone through, want 3", seen)
+	}
+}
+
 // TestDrawn holds a line against a slice.
 func TestDrawn(t *testing.T) {
 	r := rand.New(rand.NewSource(1))
 	var l Line[int]
 	var want []int
 	for n := range 5000 {
-		if r.Intn(2) == 0 {
+		switch r.Intn(4) {
+		case 0, 1:
 			l.Drop()
 			want = want[min(1, len(want)):]
-		} else {
+		case 2:
 			l.Add(n)
 			want = append(want, n)
+		default:
+			l.AddFirst(n)
+			want = append([]int{n}, want...)
 		}
 		got, ok := l.First()
 		if ok != (len(want) > 0) || ok && got != want[0] || !ok && got != 0 {
 			t.Fatalf("First() = %d, %v, want the first of %v", got, ok, want)
+		}
+		if got := slices.Collect(l.All()); !slices.Equal(got, want) {
+			t.Fatalf("All() = %v, want %v", got, want)
 		}
 	}
 }

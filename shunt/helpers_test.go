@@ -4,6 +4,7 @@ import (
 	"encoding/binary"
 	"hash/adler32"
 	"reflect"
+	"strconv"
 	"testing"
 
 	"shunt/api"
@@ -49,6 +50,52 @@ func submit(t *testing.T, m *shunt.Machine, id, lane int) {
 	want(t, "P6: Submit", m.Submit(id, lane, some()), api.OK)
 }
 
+// put submits a change into lane 0: path, old, new, by turns.
+func put(t *testing.T, m *shunt.Machine, id int, l ...string) {
+	t.Helper()
+	want(t, "P6: Submit", m.Submit(id, 0, edits(l...)), api.OK)
+}
+
+// own: a path that only the change of this id has.
+func own(id int) string { return "own" + strconv.Itoa(id) }
+
+// putOwn submits changes of different paths into lane 0.
+func putOwn(t *testing.T, m *shunt.Machine, ids ...int) {
+	t.Helper()
+	for _, id := range ids {
+		put(t, m, id, own(id), "", "1")
+	}
+}
+
+// with: settings like these, but for some.
+func with(c api.Config, change func(c *api.Config)) api.Config {
+	change(&c)
+	return c
+}
+
+func pump(t *testing.T, m *shunt.Machine) {
+	t.Helper()
+	want(t, "P8: Pump", m.Pump(), api.OK)
+}
+
+// answer ends a job, and lets the train go on.
+func answer(t *testing.T, m *shunt.Machine, job int, pass bool) {
+	t.Helper()
+	want(t, "P10: Answer", m.Answer(job, pass), api.OK)
+	pump(t, m)
+}
+
+func tick(t *testing.T, m *shunt.Machine, n int) {
+	t.Helper()
+	want(t, "P10: Tick", m.Tick(n), api.OK)
+}
+
+func recoverCrashed(t *testing.T, m *shunt.Machine) {
+	t.Helper()
+	want(t, "P13: Crash", m.Crash(), api.OK)
+	want(t, "P13: Recover", m.Recover(), api.OK)
+}
+
 // view is all that a machine tells.
 type view struct {
 	Tree    []api.File
@@ -73,6 +120,8 @@ func look(m *shunt.Machine) view {
 	return v
 }
 
+func equal(one, two view) bool { return reflect.DeepEqual(one, two) }
+
 // refused checks the error of a call, and that the call has changed nothing.
 func refused(t *testing.T, m *shunt.Machine, what string, call func() api.Errno, err api.Errno) {
 	t.Helper()
@@ -83,13 +132,73 @@ func refused(t *testing.T, m *shunt.Machine, what string, call func() api.Errno,
 	}
 }
 
-// queue checks who waits; none was passed over.
+// told checks a list that a machine tells.
+func told[T any](t *testing.T, what string, tell func() ([]T, api.Errno), want []T) {
+	t.Helper()
+	got, e := tell()
+	if e != api.OK || len(got)+len(want) > 0 && !reflect.DeepEqual(got, want) {
+		t.Errorf("%s = %+v, %d, want %+v", what, got, e, want)
+	}
+}
+
 func queue(t *testing.T, m *shunt.Machine, want ...api.Waiting) {
 	t.Helper()
-	got, e := m.Queue()
-	if e != api.OK || len(got)+len(want) > 0 && !reflect.DeepEqual(got, want) {
-		t.Errorf("P7, P14: Queue() = %v, %d, want %v", got, e, want)
+	told(t, "P7, P14: Queue()", m.Queue, want)
+}
+
+// seg: a segment: its job, how often it has failed, its changes.
+func seg(job, fails int, ids ...int) api.Segment {
+	return api.Segment{IDs: ids, Fails: fails, Job: job}
+}
+
+// passed: a segment that has.
+func passed(fails int, ids ...int) api.Segment {
+	return api.Segment{IDs: ids, Fails: fails, Passed: true}
+}
+
+func train(t *testing.T, m *shunt.Machine, want ...api.Segment) {
+	t.Helper()
+	told(t, "P8, P14: Train()", m.Train, want)
+}
+
+// running: a job; its tree is files, path and what stands there by turns.
+func running(number, until int, ids []int, files ...string) api.Job {
+	j := api.Job{Number: number, Until: until, IDs: ids}
+	for i := 0; i+1 < len(files); i += 2 {
+		j.Tree = append(j.Tree, api.File{Path: files[i], Blob: files[i+1]})
 	}
+	return j
+}
+
+func jobs(t *testing.T, m *shunt.Machine, want ...api.Job) {
+	t.Helper()
+	told(t, "P9, P14: Jobs()", func() ([]api.Job, api.Errno) {
+		list, e := m.Jobs()
+		for i := range list {
+			if len(list[i].Tree) == 0 {
+				list[i].Tree = nil // a list without elements may be nil, or not
+			}
+		}
+		return list, e
+	}, want)
+}
+
+func mainline(t *testing.T, m *shunt.Machine, want ...api.Tip) {
+	t.Helper()
+	told(t, "P8, P14: Main()", m.Main, want)
+}
+
+// landed: a Tip.
+func landed(job int, ids ...int) api.Tip { return api.Tip{Job: job, IDs: ids} }
+
+// outcomes acknowledges all there are, from a number on: id and kind by turns.
+func outcomes(t *testing.T, m *shunt.Machine, from int, l ...int) {
+	t.Helper()
+	for i := 0; i+1 < len(l); i += 2 {
+		poll(t, m, from+i/2, l[i], l[i+1])
+		want(t, "P11: Ack", m.Ack(from+i/2), api.OK)
+	}
+	nothingToPoll(t, m)
 }
 
 func poll(t *testing.T, m *shunt.Machine, number, id, kind int) {
@@ -109,10 +218,7 @@ func nothingToPoll(t *testing.T, m *shunt.Machine) {
 
 func tip(t *testing.T, m *shunt.Machine, want ...api.File) {
 	t.Helper()
-	got, e := m.Tree()
-	if e != api.OK || len(got)+len(want) > 0 && !reflect.DeepEqual(got, want) {
-		t.Errorf("P14: Tree() = %v, %d, want %v", got, e, want)
-	}
+	told(t, "P14: Tree()", m.Tree, want)
 }
 
 func log(t *testing.T, m *shunt.Machine, want string) {
@@ -163,6 +269,24 @@ func eight(n int) string {
 }
 
 // submitted: the record of a Submit of some edits.
-func submitted(id, lane int) string {
-	return record(api.RSubmit, string([]byte{byte(lane)})+"\x01\x01x\x00\x011"+eight(id))
+func submitted(id, lane int) string { return submittedOf(id, lane, some()) }
+
+// submittedOf: the record of a Submit.
+func submittedOf(id, lane int, edits []api.Edit) string {
+	body := []byte{byte(lane), byte(len(edits))}
+	for _, e := range edits {
+		for _, text := range []string{e.Path, e.Old, e.New} {
+			body = append(append(body, byte(len(text))), text...)
+		}
+	}
+	return record(api.RSubmit, string(body)+eight(id))
+}
+
+// answered: the record of an Answer.
+func answered(job int, pass bool) string {
+	verdict := "\x00"
+	if pass {
+		verdict = "\x01"
+	}
+	return record(api.RAnswer, verdict+eight(job))
 }

@@ -3,6 +3,7 @@ package shunt_test
 import (
 	"math"
 	"reflect"
+	"slices"
 	"testing"
 
 	"shunt/api"
@@ -61,7 +62,7 @@ func TestQuestionsWriteNothing(t *testing.T) {
 	log(t, m, before)
 }
 
-// writers: each call that this machine, in which 1 and 2 wait and 3 was withdrawn, writes a record of, and the record.
+// writers: each call that a busy machine writes a record of, and the record.
 var writers = []struct {
 	name   string
 	call   func(m *shunt.Machine) api.Errno
@@ -71,18 +72,37 @@ var writers = []struct {
 	{"Cancel", func(m *shunt.Machine) api.Errno { return m.Cancel(1) }, record(api.RCancel, eight(1))},
 	{"Ack", func(m *shunt.Machine) api.Errno { return m.Ack(1) }, record(api.RAck, eight(1))},
 	{"Tick", func(m *shunt.Machine) api.Errno { return m.Tick(5) }, record(api.RTick, eight(5))},
+	{"Tick till a job's time comes", func(m *shunt.Machine) api.Errno { return m.Tick(10) }, record(api.RTick, eight(10))},
+	{"Answer that it has passed", func(m *shunt.Machine) api.Errno { return m.Answer(3, true) }, record(api.RAnswer, "\x01"+eight(3))},
+	{"Answer that it has failed", func(m *shunt.Machine) api.Errno { return m.Answer(3, false) }, record(api.RAnswer, "\x00"+eight(3))},
 	{"Pump", (*shunt.Machine).Pump, record(api.RPump, "")},
 }
 
-// busy: 1 and 2 wait, 3 was withdrawn.
+// busy: 1 and 2 wait, 3 was withdrawn; the train is (8), which has passed, and (9), whose job 3 is running.
 func busy(t *testing.T) *shunt.Machine {
 	t.Helper()
-	m := machine(t, wide, api.File{Path: "q", Blob: "1"})
+	m := machine(t, with(wide, func(c *api.Config) { c.Window = 2 }), api.File{Path: "q", Blob: "1"})
+	putOwn(t, m, 8, 9)
+	pump(t, m)
+	answer(t, m, 1, false)
+	want(t, "P10: Answer", m.Answer(2, true), api.OK)
 	submit(t, m, 1, 1)
 	submit(t, m, 2, 0)
 	submit(t, m, 3, 0)
 	want(t, "P6: Cancel", m.Cancel(3), api.OK)
+	train(t, m, passed(0, 8), seg(3, 0, 9))
 	return m
+}
+
+// recovered: what is told behind a Recover of a machine that told this.
+func recovered(v view) view {
+	v.Log += record(api.RRecover, "")
+	v.Jobs = nil
+	v.Train = slices.Clone(v.Train)
+	for i := range v.Train {
+		v.Train[i].Job = 0
+	}
+	return v
 }
 
 // withLog: a view with another journal.
@@ -97,6 +117,7 @@ func TestBreakBehindEachByte(t *testing.T) {
 		plainly := busy(t)
 		before := look(plainly)
 		want(t, w.name, w.call(plainly), api.OK)
+		log(t, plainly, before.Log+w.record)
 		after := look(plainly)
 		for keep := -1; keep <= len(w.record)+1; keep++ {
 			m := busy(t)
@@ -109,14 +130,11 @@ func TestBreakBehindEachByte(t *testing.T) {
 			log(t, m, before.Log+w.record[:kept])
 			isDown(t, m)
 			want(t, "P13: Recover", m.Recover(), api.OK)
-			wanted := withLog(before, before.Log+record(api.RRecover, ""))
+			wanted := recovered(before)
 			if kept == len(w.record) {
-				wanted = withLog(after, before.Log+w.record+record(api.RRecover, ""))
+				wanted = recovered(after)
 			}
-			// A Recover drops jobs: of the train it need not tell what was told ahead of it.
-			got := look(m)
-			got.Train, got.Jobs, wanted.Train, wanted.Jobs = nil, nil, nil, nil
-			if !reflect.DeepEqual(got, wanted) {
+			if got := look(m); !equal(got, wanted) {
 				t.Errorf("P13: %s broken behind %d bytes, recovered: %+v, want %+v", w.name, keep, got, wanted)
 			}
 			refused(t, m, "P13: Recover, up", m.Recover, api.ErrUp)
@@ -157,8 +175,8 @@ func TestBreakWaitsForAWriting(t *testing.T) {
 	refused(t, m, "P6: Submit", submits(m, 1, 0, some()), api.ErrTwice)
 	refused(t, m, "P6: Cancel", cancels(m, 3), api.ErrNone)
 	refused(t, m, "P11: Ack", func() api.Errno { return m.Ack(2) }, api.ErrNone)
-	refused(t, m, "P10: Answer", func() api.Errno { return m.Answer(1, true) }, api.ErrJob)
-	refused(t, m, "P10: Tick", func() api.Errno { return m.Tick(0) }, api.ErrTick)
+	refused(t, m, "P10: Answer", answers(m, 2, true), api.ErrJob)
+	refused(t, m, "P10: Tick", ticks(m, 0), api.ErrTick)
 	refused(t, m, "P13: Recover", m.Recover, api.ErrUp)
 	before := m.Log()
 	want(t, "P6: Cancel", m.Cancel(1), api.ErrDown)
@@ -231,18 +249,4 @@ func TestBreakAgainAndAgain(t *testing.T) {
 	}
 	submit(t, m, 1, 0)
 	log(t, m, wanted+submitted(1, 0))
-}
-
-// TestNoTrainYetButErrors: without a train there is no job to answer, and time goes by as far as it may.
-func TestNoTrainYetButErrors(t *testing.T) {
-	m := machine(t, plain)
-	for _, job := range []int{math.MinInt, -1, 0, 1, math.MaxInt} {
-		refused(t, m, "P10: Answer", func() api.Errno { return m.Answer(job, true) }, api.ErrJob)
-		refused(t, m, "P10: Answer", func() api.Errno { return m.Answer(job, false) }, api.ErrJob)
-	}
-	for _, n := range []int{math.MinInt, -1, 0, api.MaxTick + 1, math.MaxInt} {
-		refused(t, m, "P10: Tick", func() api.Errno { return m.Tick(n) }, api.ErrTick)
-	}
-	want(t, "P10: Tick", m.Tick(1), api.OK)
-	want(t, "P10: Tick", m.Tick(api.MaxTick), api.OK)
 }

@@ -99,10 +99,15 @@ func TestMachinesKnowNothingOfOneAnother(t *testing.T) {
 	submit(t, one, 1, 0)
 	want(t, "P6: Cancel", one.Cancel(1), api.OK)
 	submit(t, one, 2, 0)
+	pump(t, one)
+	answer(t, one, 1, true)
+	submit(t, one, 3, 0)
 	want(t, "P13: Break", one.Break(3), api.OK)
-	want(t, "P6: Cancel", one.Cancel(2), api.ErrDown)
+	want(t, "P6: Cancel", one.Cancel(3), api.ErrDown)
 	if after := look(two); !reflect.DeepEqual(after, before) {
 		t.Errorf("P2: what one machine did has made %+v of another one's %+v", after, before)
 	}
 	submit(t, two, 1, 0)
+	pump(t, two)
+	train(t, two, seg(1, 0, 1))
 }

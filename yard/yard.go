@@ -2,6 +2,7 @@
 package yard
 
 import (
+	"cmp"
 	"slices"
 
 	"shunt/api"
@@ -10,19 +11,23 @@ import (
 	"shunt/line"
 )
 
-// Yard is the tip, who waits, and the outcomes.
+// Yard is the mainline, who waits, the train, and the outcomes.
 type Yard struct {
 	config    api.Config
-	tip       fileset.Set
+	tip       fileset.Set // never written into, but replaced: first it is the files that New was given
+	mainline  []api.Tip
 	queue     []waiting
 	submitted map[int]struct{} // whatever became of them
-	ended     int
+	train     line.Line[*segment]
+	begun     int // jobs so far
+	now       int
+	ended     int                    // changes so far
 	outcomes  line.Line[api.Outcome] // that are not acknowledged
 }
 
 // New makes a yard in which nothing has happened (P5).
 func New(c api.Config, files fileset.Set) *Yard {
-	return &Yard{config: c, tip: files.Clone(), submitted: map[int]struct{}{}}
+	return &Yard{config: c, tip: files, submitted: map[int]struct{}{}}
 }
 
 // Check tells why what a record says can't be done (OK: it can). Nothing is
@@ -36,7 +41,9 @@ func (y *Yard) Check(r journal.Record) api.Errno {
 			return api.ErrNone
 		}
 	case api.RAnswer:
-		return api.ErrJob // as long as Pump begins no jobs, none is running
+		if _, runs := y.testedBy(r.Number); !runs {
+			return api.ErrJob
+		}
 	case api.RTick:
 		if r.Number < 1 || r.Number > api.MaxTick {
 			return api.ErrTick
@@ -56,8 +63,18 @@ func (y *Yard) Do(r journal.Record) {
 		y.submit(r)
 	case api.RCancel:
 		y.withdraw(r.ID)
+	case api.RPump:
+		y.pump()
+	case api.RAnswer:
+		if s, runs := y.testedBy(r.Number); runs {
+			s.endJob(r.Pass)
+		}
+	case api.RTick:
+		y.tick(r.Number)
 	case api.RAck:
 		y.outcomes.Drop()
+	case api.RRecover:
+		y.loseJobs()
 	}
 }
 
@@ -71,19 +88,36 @@ func (y *Yard) Tree() []api.File {
 	return y.tip.List()
 }
 
-// Main tells the mainline (P14): nothing lands yet.
+// Main tells the mainline, the oldest Tip first (P14).
 func (y *Yard) Main() []api.Tip {
-	return nil
+	list := slices.Clone(y.mainline)
+	for i := range list {
+		list[i].IDs = slices.Clone(list[i].IDs)
+	}
+	return list
 }
 
-// Train tells the segments (P14): there are none yet.
+// Train tells the segments, the first first (P14).
 func (y *Yard) Train() []api.Segment {
-	return nil
+	var list []api.Segment
+	for s := range y.train.All() {
+		list = append(list, s.tell())
+	}
+	return list
 }
 
-// Jobs tells what is running (P14): none is begun yet.
+// Jobs tells what is running, by rising numbers (P14).
 func (y *Yard) Jobs() []api.Job {
-	return nil
+	var list []api.Job
+	var ids []int
+	for s := range y.train.All() {
+		ids = append(ids, s.ids()...)
+		if j := s.job; j != nil {
+			list = append(list, api.Job{Number: j.number, Until: j.until, IDs: slices.Clone(ids), Tree: slices.Clone(j.tree)})
+		}
+	}
+	slices.SortFunc(list, func(a, b api.Job) int { return cmp.Compare(a.Number, b.Number) })
+	return list
 }
 
 // Queue tells who waits, by rank (P7, P14).
